@@ -1,0 +1,1 @@
+"""Everybill: plans of charges, compared over every history of use."""
