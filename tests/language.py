@@ -10,6 +10,8 @@ import pathlib
 import re
 import sys
 
+from tests.language_loops import MORE_CHECKS, is_generator
+
 PACKAGE = "everybill"
 FOLDER = pathlib.Path(__file__).resolve().parent.parent / PACKAGE
 
@@ -59,13 +61,14 @@ LAZY = {"zip", "enumerate", "reversed", "range"}
 class File:
     """A file of the package: `known` are the names of all own functions, classes and methods."""
 
-    def __init__(self, name, text, known=(), errors=()):
+    def __init__(self, name, text, known=(), errors=(), generators=()):
         self.name = name
         self.text = text
         self.tree = ast.parse(text)
         self.nodes = list(ast.walk(self.tree))
         self.known = set(known)
         self.errors = set(errors)
+        self.generators = set(generators)
 
     def told(self, rule, node, what):
         """Return the line that tells of a break of a rule at this node or in this line."""
@@ -322,7 +325,7 @@ def check_strings(file):
 
 CHECKS = (
     check_text, check_module, check_imports, check_names, check_statements, check_functions, check_classes,
-    check_errors, check_calls, check_strings,
+    check_errors, check_calls, check_strings, *MORE_CHECKS,
 )
 
 
@@ -341,7 +344,8 @@ def package_files(folder=FOLDER):
         node.name for node in nodes if isinstance(node, ast.ClassDef)
         for base in node.bases if base.id in ("FormError", "StateError", "ValueError", "LookupError", "Exception")
     }
-    return [File(name, text, known, errors) for name, text in texts.items()]
+    generators = {node.name for node in nodes if isinstance(node, ast.FunctionDef) and is_generator(node)}
+    return [File(name, text, known, errors, generators) for name, text in texts.items()]
 
 
 def check_folder(folder=FOLDER):

@@ -20,6 +20,10 @@ INTERFACE = {
         "StateError NoPlans NothingToSend NothingToUndo NoUse NegativeUse OverLimit"
     ),
     "plans.py": "Plan",
+    "billing.py": "bill after lines tail",
+    "histories.py": "bills total state_after long_run",
+    "states.py": "states apart alike classes",
+    "leads.py": "lead never_ahead needless",
 }
 
 # Each text breaks the rule in front of it.
@@ -69,6 +73,33 @@ BREAKS = (
     ("L28", "class One:\n    def __init__(self):\n        return None\n"),
     ("L28", "class One:\n    def __str__(self):\n        return self.a\n"),
     ("L28", "class One:\n    def __eq__(self, other):\n        self.a = 1\n        return True\n"),
+    ("L23", "def one(a):\n    yield 1\n    return a\n"),
+    ("L23", "def one(a):\n    b = yield a\n"),
+    ("L23", "def one(a):\n    yield a\n\n\ndef two(a):\n    return one(a)\n"),
+    ("L23", "def one(a):\n    yield a\n\n\ndef two(a):\n    return a(one)\n"),
+    ("L23", "def one(a):\n    try:\n        yield a\n    except KeyError:\n        pass\n"),
+    ("L23", "def one(a):\n    for b in a:\n        a.append(b)\n"),
+    ("L23", "def one(a):\n    for b in list(a):\n        pass\n    for b, c in a.items():\n        a[b] = 1\n"),
+    ("L23", "def one(a):\n    for b, c in enumerate(a):\n        del a[b]\n"),
+    ("L23", "def one(a):\n    for b in a:\n        a += [b]\n"),
+    ("L24", "def one(a):\n    for b in set(a):\n        pass\n"),
+    ("L24", "def one(a):\n    return set(a)\n"),
+    ("L24", "def one(a):\n    b = set(a)\n    return b\n"),
+    ("L24", "def one(a):\n    b = set(a)\n    return [c for c in b]\n"),
+    ("L24", "def one(a):\n    b = set(a)\n    b = {c for c in a}\n    return len(b)\n"),
+    ("L24", "def one(a):\n    b = set(a)\n    b.update(a)\n"),
+    ("L24", "def one(a):\n    return list({c for c in a})\n"),
+    ("L5", "def one(a):\n    yield a\n\n\ndef two(a):\n    return sum(one(a))\n"),
+    ("L25", "def one(a):\n    a.sort()\n"),
+    ("L7", "ONE = [a for a in (1, 2)]\n"),
+)
+# None of these breaks a rule.
+KEPT = (
+    "def one(a):\n    for b in a:\n        yield b\n\n\ndef two(a):\n    for b in one(a):\n        a(b)\n",
+    "def one(a):\n    yield a\n\n\ndef two(a):\n    return list(one(a))\n",
+    "def one(a):\n    b = set()\n    for c in a:\n        if c not in b:\n            b.add(c)\n    return sorted(b)\n",
+    "def one(a):\n    return sorted(set(a)), len({b for b in a})\n",
+    "def one(a):\n    for b in list(a):\n        a.append(b)\n",
 )
 
 
@@ -106,7 +137,12 @@ class ChecksTest(unittest.TestCase):
     def test_code_that_breaks_a_rule_is_noticed(self):
         for rule, text in BREAKS:
             with self.subTest(rule, text=text[:60]):
-                self.assertIn(rule, rules_of(breaks(File("one.py", text, known={"one"}))))
+                self.assertIn(rule, rules_of(breaks(File("one.py", text, known={"one"}, generators={"one"}))))
+
+    def test_code_that_breaks_no_rule_is_not_noticed(self):
+        for text in KEPT:
+            with self.subTest(text):
+                self.assertEqual(breaks(File("one.py", text, known={"one", "two"})), [])
 
     def test_other_files_in_the_folder_are_noticed(self):
         for name in ("notes.txt", "Big.py", "a-b.py", "test_one.py", "sum.py"):

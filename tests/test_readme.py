@@ -1,9 +1,14 @@
 """README.md says how to use the program and how to run its tests."""
 
 import doctest
+import inspect
 import pathlib
 import unittest
 
+from everybill import billing, histories, leads, states
+from tests import test_language
+
+INTERFACE = " ".join(test_language.INTERFACE.values()).split()
 README = pathlib.Path(__file__).resolve().parent.parent / "README.md"
 
 
@@ -20,8 +25,15 @@ class ReadmeTest(unittest.TestCase):
 
     def test_it_names_the_modules_to_use(self):
         text = README.read_text(encoding="utf-8")
-        for module in ("everybill.limits", "everybill.errors", "everybill.plans"):
-            self.assertIn(module, text)
+        for module in "limits errors plans billing histories states leads".split():
+            self.assertIn(f"- `everybill.{module}`: ", text)
+
+    def test_it_shows_each_function(self):
+        text = README.read_text(encoding="utf-8")
+        for module in (billing, histories, states, leads):
+            for name, held in vars(module).items():
+                if inspect.isfunction(held) and held.__module__ == module.__name__ and name in INTERFACE:
+                    self.assertIn(f"{name}(", text)
 
 
 if __name__ == "__main__":

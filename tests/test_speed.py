@@ -1,0 +1,82 @@
+"""Each function ends soon for every plan within the limits."""
+
+import random
+import time
+import unittest
+
+from everybill.billing import after, bill, lines, tail
+from everybill.histories import bills, long_run, state_after, total
+from everybill.leads import lead, needless, never_ahead
+from everybill.plans import Plan
+from everybill.states import alike, apart, classes, states
+from tests.makers import MONEY, WIDEST, with_parts
+
+# "About a second", with room for a slow machine; each call takes some hundredths of a second in fact.
+SECONDS = 2
+GREAT_USE = 10 ** 40 - 1
+
+
+def great_pairs():
+    """Return pairs of plans with two fees, three carried units, a streak and great amounts."""
+    chooser = random.Random(41)
+    pairs = [(one, other) for one in WIDEST for other in WIDEST]
+    for one in WIDEST:
+        for shift in (0, 1, MONEY // 2):
+            pairs.append((one, with_parts(one, fees=(MONEY - shift, 1 + shift))))
+            pairs.append((one, with_parts(one, streak=(one.streak[0] + 1, 2, MONEY - shift))))
+            pairs.append((one, with_parts(one, included=one.included - 1)))
+        pairs.append((one, Plan.read(str(one))))
+    for at in range(20):
+        one = Plan(
+            (chooser.randint(0, MONEY), chooser.randint(0, MONEY)),
+            tuple((start, chooser.choice((1, 2, MONEY))) for start in (0, 3, 7, 12)),
+            included=chooser.randint(1, 12), carry=3, least=chooser.randint(0, 9), most=MONEY,
+            streak=(chooser.randint(1, 16), 2, chooser.randint(0, MONEY)),
+        )
+        pairs.append((one, with_parts(one, fees=one.fees[::-1], included=chooser.randint(0, 12), carry=2)))
+    return pairs
+
+
+class SpeedTest(unittest.TestCase):
+    def soon(self, call, *given, **named):
+        begun = time.process_time()
+        result = call(*given, **named)
+        self.assertLess(time.process_time() - begun, SECONDS, (call.__name__, given, named))
+        return result
+
+    def test_single_bills(self):
+        for plan in WIDEST:
+            for state in ((0, 0, 0), (3, 2, 1)):
+                for call in (bill, after, lines):
+                    self.soon(call, plan, state, GREAT_USE)
+                self.soon(tail, plan, state)
+
+    def test_histories(self):
+        runs = tuple(((5, 0, GREAT_USE, 17, at, 9), 10 ** 18 - at) for at in range(8))
+        for plan in WIDEST:
+            self.soon(lambda: list(bills(plan, (GREAT_USE,) * 24)))
+            self.soon(total, plan, runs, state=(3, 2, 1))
+            self.soon(state_after, plan, runs, state=(3, 2, 1))
+            self.soon(long_run, plan, (5, 0, GREAT_USE) * 8)
+
+    def test_states(self):
+        for one, other in great_pairs():
+            self.soon(states, one)
+            self.soon(classes, other)
+            self.soon(alike, one, other)
+            self.soon(apart, one, other, state=(3, 2, 1), other_state=(0, 1, 0))
+
+    def test_leads(self):
+        for one, other in great_pairs():
+            for most_use in (None, 3, 20, MONEY, GREAT_USE):
+                self.soon(lead, one, other, most_use=most_use)
+                self.soon(never_ahead, other, one, MONEY, most_use=most_use)
+
+    def test_four_plans(self):
+        pairs = great_pairs()
+        for at in range(0, len(pairs) - 1, 3):
+            self.soon(needless, *pairs[at], *pairs[at + 1])
+
+
+if __name__ == "__main__":
+    unittest.main()
