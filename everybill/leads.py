@@ -3,7 +3,7 @@
 from everybill.checks import check_amount, check_bound, check_plan, check_plans
 from everybill.limits import START
 from everybill.pairs import explored
-from everybill.walks import greatest_walk, way_to
+from everybill.walks import best_steps, greatest_walk, way_to
 
 
 def best_step(stretch):
@@ -16,16 +16,6 @@ def best_step(stretch):
     return (stretch.last, stretch.gap + (stretch.last - stretch.first) * stretch.step, stretch.pair)
 
 
-def best_steps(rows):
-    """Return the list of the best step to each pair to which these stretches lead."""
-    best = {}
-    for stretch in rows:
-        step = best_step(stretch)
-        if step[2] not in best or step[1] > best[step[2]][1]:
-            best[step[2]] = step
-    return list(best.values())
-
-
 def lead(one, other, *, most_use=None):
     """Decide by how much one plan can lead over the other one, for all uses or for those up to a bound."""
     check_plan(one)
@@ -33,7 +23,7 @@ def lead(one, other, *, most_use=None):
     check_bound(most_use)
     start = (START, START)
     table = explored(one, other, [start], most_use)
-    graph = {pair: best_steps(table[pair]) for pair in table}
+    graph = {pair: best_steps([best_step(row) for row in table[pair]]) for pair in table}
     for pair, rows in table.items():
         if rows[-1].last is None and rows[-1].step > 0:
             return ("ray", way_to(graph, start, pair), rows[-1].first)

@@ -20,7 +20,7 @@ class Stretch:
 
 def joined(piece, other, first, last):
     """Return the stretch of these uses, which lie in both pieces."""
-    gap = piece.bill + (first - piece.first) * piece.step - other.bill - (first - other.first) * other.step
+    gap = piece.bill_of(first) - other.bill_of(first)
     return Stretch(first, last, gap, piece.step - other.step, (piece.state, other.state))
 
 
@@ -31,12 +31,10 @@ def moved(pieces, at, first):
     return at
 
 
-def stretches(pieces, others, most_use):
-    """Return the ascending list of the stretches of two states with these pieces, up to the bound of uses."""
+def stretches(pieces, others):
+    """Return the ascending list of the stretches of two states with these pieces, which end with the same use."""
     firsts = sorted(set([piece.first for piece in [*pieces, *others]]))
-    if most_use is not None:
-        firsts = [first for first in firsts if first <= most_use]
-    lasts = [*[first - 1 for first in firsts[1:]], most_use]
+    lasts = [*[first - 1 for first in firsts[1:]], pieces[-1].last]
     rows = []
     at = beside = 0
     for first, last in zip(firsts, lasts):
@@ -48,12 +46,12 @@ def stretches(pieces, others, most_use):
 
 def explored(one, other, starts, most_use=None):
     """Return a dict with the stretches of each pair of states that a history reaches from one of these pairs."""
-    pieces, others = pieces_by_state(one), pieces_by_state(other)
+    pieces, others = pieces_by_state(one, most_use), pieces_by_state(other, most_use)
     table = {}
     waiting = list(starts)
     while waiting:
         pair = waiting.pop()
         if pair not in table:
-            table[pair] = stretches(pieces[pair[0]], others[pair[1]], most_use)
+            table[pair] = stretches(pieces[pair[0]], others[pair[1]])
             waiting.extend([stretch.pair for stretch in table[pair] if stretch.pair not in table])
     return table

@@ -4,16 +4,21 @@ from everybill.charges import available_units, charge, full_cost, successor
 
 
 class Piece:
-    """The uses from `first` on, up to the one ahead of the next piece.
+    """Uses whose bills grow evenly: those from `first` to `last`, or all from `first` on if `last` is None.
 
     The use `first` has this bill, each unit more adds `step` to it, and all of them lead to this next state.
     """
 
-    def __init__(self, first, bill, step, state):
+    def __init__(self, first, last, bill, step, state):
         self.first = first
+        self.last = last
         self.bill = bill
         self.step = step
         self.state = state
+
+    def bill_of(self, use):
+        """Return the bill of one of these uses."""
+        return self.bill + (use - self.first) * self.step
 
 
 def first_reaching(plan, state, amount):
@@ -49,19 +54,21 @@ def step_at(plan, state, use):
     return charge(plan, state, use + 1) - charge(plan, state, use)
 
 
-def pieces_of(plan, state):
-    """Return the ascending list of the pieces of this state; together they have all uses."""
+def pieces_of(plan, state, most_use=None):
+    """Return the ascending list of the pieces of this state; together they have all uses up to the bound."""
+    firsts = [first for first in turns(plan, state) if most_use is None or first <= most_use]
+    lasts = [*[first - 1 for first in firsts[1:]], most_use]
     return [
-        Piece(first, charge(plan, state, first), step_at(plan, state, first), successor(plan, state, first))
-        for first in turns(plan, state)
+        Piece(first, last, charge(plan, state, first), step_at(plan, state, first), successor(plan, state, first))
+        for first, last in zip(firsts, lasts)
     ]
 
 
-def pieces_by_state(plan):
+def pieces_by_state(plan, most_use=None):
     """Return a dict with the pieces of each state of the plan, reached or not."""
     row = 0 if plan.streak is None else plan.streak[1]
     return {
-        (carried, busy, turn): pieces_of(plan, (carried, busy, turn))
+        (carried, busy, turn): pieces_of(plan, (carried, busy, turn), most_use)
         for carried in range(plan.carry + 1)
         for busy in range(row + 1)
         for turn in range(len(plan.fees))

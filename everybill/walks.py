@@ -5,6 +5,15 @@ an integer that it adds, and the node to which it leads; labels of one node are 
 """
 
 
+def best_steps(steps):
+    """Return the list of the steps that gain most to each node, each of them by the least label that does."""
+    best = {}
+    for label, gain, node in steps:
+        if node not in best or (-gain, label) < best[node]:
+            best[node] = (-gain, label)
+    return [(label, -loss, node) for node, (loss, label) in best.items()]
+
+
 def weighed(graph):
     """Return the graph with its gains multiplied, each minus 1, and the multiplier.
 

@@ -76,6 +76,11 @@ def slow_lead(one, other, uses):
     return slow_total(one, uses) - slow_total(other, uses)
 
 
+def slow_loss(plan, pairs):
+    """Return the loss of a thrift history."""
+    return slow_total(plan, [less for less, more in pairs]) - slow_total(plan, [more for less, more in pairs])
+
+
 def all_states(plan):
     """Return the list of all states of the plan, reached or not (point 8)."""
     row = plan.streak[1] if plan.streak is not None else 0
@@ -139,9 +144,8 @@ class Pairs:
             ways = longer
         return None
 
-    def lead(self):
+    def lead(self, start=((0, 0, 0), (0, 0, 0))):
         """Return ("loop",), or ("number", AMOUNT, HISTORY): the best history to each pair, a length after the other."""
-        start = ((0, 0, 0), (0, 0, 0))
         many = len(self.reached(start))
         best = {start: (0, 0, ())}
         for length in range(many):
@@ -157,6 +161,35 @@ class Pairs:
             best = longer
         # No walk without a circle is so long, so a circle improves something.
         return ("loop",)
+
+
+class Thrifts(Pairs):
+    """A plan beside itself; in place of a use each step has a pair (LESS, MORE), the best one to its pair of states."""
+
+    def __init__(self, plan, uses):
+        self.uses = sorted(uses)
+        self.rows = {
+            state: [(slow_bill(plan, state, use), slow_after(plan, state, use)) for use in self.uses]
+            for state in all_states(plan)
+        }
+        self.steps = {}
+        waiting = [((0, 0, 0), (0, 0, 0))]
+        while waiting:
+            pair = waiting.pop()
+            if pair not in self.steps:
+                self.steps[pair] = self.best_steps(*pair)
+                waiting.extend(behind for label, gain, behind in self.steps[pair])
+
+    def best_steps(self, state, beside):
+        dearest, best = {}, {}
+        for use, (amount, behind), (cost, behind_too) in zip(self.uses, self.rows[state], self.rows[beside]):
+            if behind not in dearest or amount > dearest[behind][0]:
+                dearest[behind] = (amount, use)
+            for behind, (amount, less) in dearest.items():
+                found = (cost - amount, (less, use))
+                if found < best.get((behind, behind_too), (10 ** 50,)):
+                    best[behind, behind_too] = found
+        return [(label, -cost, pair) for pair, (cost, label) in best.items()]
 
 
 def turning_uses(*plans):

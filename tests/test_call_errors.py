@@ -4,9 +4,9 @@ import inspect
 import itertools
 import unittest
 
-from everybill import billing, histories, leads, states
+from everybill import backwards, billing, histories, leads, states, thrift
 from everybill.errors import InvalidAmount, InvalidBound, InvalidRuns, InvalidState
-from everybill.errors import InvalidUse, InvalidUses, NoPlans, NotAPlan
+from everybill.errors import InvalidUse, InvalidUses, NoPlans, NotAPlan, NoUse
 from everybill.histories import bills, long_run, state_after, total
 from everybill.leads import lead, needless, never_ahead
 from everybill.plans import Plan
@@ -19,6 +19,14 @@ TIMES = 10 ** 18
 
 def all_bills(*given, **named):
     return list(bills(*given, **named))
+
+
+def greatest_use(*given, **named):
+    """Return None also where no use has such a bill, which is no error of a parameter."""
+    try:
+        return backwards.greatest_use(*given, **named)
+    except NoUse:
+        return None
 
 
 # For each function its parameters in the order of their errors; those from `by_name` on are passed by name only.
@@ -37,14 +45,21 @@ CALLS = (
     (states.classes, "plan", 1),
     (leads.lead, "one other most_use", 2),
     (leads.never_ahead, "one other by most_use", 3),
+    (thrift.thrift, "plan most_use", 1),
+    (thrift.is_thrifty, "plan", 1),
+    (backwards.uses_for, "plan state amount", 3),
+    (backwards.greatest_use, "plan state amount", 3),
 )
+# What is called in place of a function to see its errors.
+CALLED = {bills: all_bills, backwards.greatest_use: greatest_use}
 VALID = {
     "plan": FLEX, "one": FLEX, "other": FLEX, "state": (2, 1, 0), "other_state": (1, 2, 0), "use": 5, "uses": (1, 7),
-    "runs": (((1, 7), 3),), "most_use": None, "by": -5,
+    "runs": (((1, 7), 3),), "most_use": None, "by": -5, "amount": 110,
 }
 ERRORS = {
     "plan": NotAPlan, "one": NotAPlan, "other": NotAPlan, "state": InvalidState, "other_state": InvalidState,
     "use": InvalidUse, "uses": InvalidUses, "runs": InvalidRuns, "most_use": InvalidBound, "by": InvalidAmount,
+    "amount": InvalidAmount,
 }
 # Which of the sample values each parameter admits, by the words of the document, beside FLEX.
 ADMITTED = {
@@ -58,19 +73,18 @@ ADMITTED = {
     "runs": lambda v: type(v) is tuple and v == (),
     "most_use": lambda v: v is None or is_integer(v) and v >= 0,
     "by": is_integer,
+    "amount": is_integer,
 }
 WRONG = {
     "plan": "a plan", "one": None, "other": FLEX.form, "state": (0, 0, 1), "other_state": [0, 0, 0], "use": True,
-    "uses": (1, True), "runs": (((1, 7), 3), ((), 3)), "most_use": -1, "by": "5",
+    "uses": (1, True), "runs": (((1, 7), 3), ((), 3)), "most_use": -1, "by": "5", "amount": True,
 }
 TOLD = {"uses": ("index", 1), "runs": ("index", 1)}
 
 
 def calls():
     """Return the triples of a function, the names of its parameters and what is called."""
-    return [
-        (function, names.split(), all_bills if function is bills else function) for function, names, by_name in CALLS
-    ]
+    return [(function, names.split(), CALLED.get(function, function)) for function, names, by_name in CALLS]
 
 
 class SignatureTest(unittest.TestCase):
@@ -185,6 +199,8 @@ class StateTest(unittest.TestCase):
             lambda: long_run(plan, (1,), state=value),
             lambda: apart(plan, FLEX, state=value),
             lambda: apart(FLEX, plan, other_state=value),
+            lambda: backwards.uses_for(plan, value, 0),
+            lambda: backwards.greatest_use(plan, value, -1),
         ):
             with self.subTest(value=value, plan=plan.form):
                 self.assertIs(raised(InvalidState, call).value, value)
@@ -286,9 +302,12 @@ class BoundTest(unittest.TestCase):
         for value in (-1, 1 - 10 ** 40, True, False, "5", (5,), [5], {}, FLEX):
             self.assertIs(raised(InvalidBound, lead, FLEX, PLAIN, most_use=value).value, value)
             self.assertIs(raised(InvalidBound, never_ahead, FLEX, PLAIN, 0, most_use=value).value, value)
+            self.assertIs(raised(InvalidBound, thrift.thrift, FLEX, most_use=value).value, value)
         for value in (None, True, False, "5", (5,), [5], {}, FLEX):
             self.assertIs(raised(InvalidAmount, never_ahead, FLEX, PLAIN, value).value, value)
             self.assertIs(raised(InvalidAmount, never_ahead, FLEX, PLAIN, value, most_use=-1).value, value)
+            self.assertIs(raised(InvalidAmount, backwards.uses_for, FLEX, (0, 0, 0), value).value, value)
+            self.assertIs(raised(InvalidAmount, backwards.greatest_use, FLEX, (0, 0, 0), value).value, value)
         for value in (None, 0, 10 ** 40 - 1):
             lead(FLEX, PLAIN, most_use=value)
             never_ahead(FLEX, PLAIN, 1 - 10 ** 40, most_use=value)

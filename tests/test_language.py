@@ -24,6 +24,9 @@ INTERFACE = {
     "histories.py": "bills total state_after long_run",
     "states.py": "states apart alike classes",
     "leads.py": "lead never_ahead needless",
+    "thrift.py": "thrift is_thrifty",
+    "backwards.py": "uses_for greatest_use",
+    "choosing.py": "row_cost cheapest",
 }
 
 # Each text breaks the rule in front of it.

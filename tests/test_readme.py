@@ -5,7 +5,7 @@ import inspect
 import pathlib
 import unittest
 
-from everybill import billing, histories, leads, states
+from everybill import backwards, billing, choosing, histories, leads, states, thrift
 from tests import test_language
 
 INTERFACE = " ".join(test_language.INTERFACE.values()).split()
@@ -25,12 +25,12 @@ class ReadmeTest(unittest.TestCase):
 
     def test_it_names_the_modules_to_use(self):
         text = README.read_text(encoding="utf-8")
-        for module in "limits errors plans billing histories states leads".split():
+        for module in "limits errors plans billing histories states leads thrift backwards choosing".split():
             self.assertIn(f"- `everybill.{module}`: ", text)
 
     def test_it_shows_each_function(self):
         text = README.read_text(encoding="utf-8")
-        for module in (billing, histories, states, leads):
+        for module in (billing, histories, states, leads, thrift, backwards, choosing):
             for name, held in vars(module).items():
                 if inspect.isfunction(held) and held.__module__ == module.__name__ and name in INTERFACE:
                     self.assertIn(f"{name}(", text)

@@ -4,11 +4,14 @@ import random
 import time
 import unittest
 
+from everybill.backwards import greatest_use, uses_for
 from everybill.billing import after, bill, lines, tail
+from everybill.choosing import cheapest, row_cost
 from everybill.histories import bills, long_run, state_after, total
 from everybill.leads import lead, needless, never_ahead
 from everybill.plans import Plan
 from everybill.states import alike, apart, classes, states
+from everybill.thrift import is_thrifty, thrift
 from tests.makers import MONEY, WIDEST, with_parts
 
 # "About a second", with room for a slow machine; each call takes some hundredths of a second in fact.
@@ -76,6 +79,27 @@ class SpeedTest(unittest.TestCase):
         pairs = great_pairs()
         for at in range(0, len(pairs) - 1, 3):
             self.soon(needless, *pairs[at], *pairs[at + 1])
+
+    def test_thrift(self):
+        for pair in great_pairs():
+            for plan in pair:
+                self.soon(is_thrifty, plan)
+                for most_use in (None, 3, 20, MONEY, GREAT_USE):
+                    self.soon(thrift, plan, most_use=most_use)
+
+    def test_backwards(self):
+        for plan in WIDEST:
+            for state in ((0, 0, 0), (3, 2, 1)):
+                for amount in (MONEY, GREAT_USE):
+                    self.soon(uses_for, plan, state, amount)
+                    self.soon(greatest_use, plan, state, GREAT_USE)
+
+    def test_choosing(self):
+        for uses in ((GREAT_USE,) * 24, (0, 5, 12, 30, MONEY, GREAT_USE) * 4):
+            for change in (0, 1, MONEY, GREAT_USE):
+                self.soon(cheapest, uses, *WIDEST, change=change)
+                self.soon(cheapest, uses, *WIDEST[:1] * 4, change=change)
+                self.soon(row_cost, uses, (0, 1, 2, 3) * 6, *WIDEST, change=change)
 
 
 if __name__ == "__main__":
