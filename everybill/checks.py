@@ -1,8 +1,8 @@
 """The errors of the parameters that occur in several functions of the interface."""
 
-from everybill.errors import InvalidAmount, InvalidBound, InvalidRuns, InvalidState
+from everybill.errors import InvalidAmount, InvalidBound, InvalidPeriod, InvalidRuns, InvalidState
 from everybill.errors import InvalidUse, InvalidUses, NoPlans, NotAPlan
-from everybill.limits import MOST_RUN_USES, MOST_RUNS, MOST_TIMES
+from everybill.limits import MOST_PERIODS, MOST_RUN_USES, MOST_RUNS, MOST_TIMES
 from everybill.plans import Plan
 from everybill.values import is_between, is_tuple_of, is_whole
 
@@ -92,3 +92,9 @@ def check_bound(value):
     """Raise InvalidBound if the value is neither None nor a use."""
     if value is not None and not is_use(value):
         raise InvalidBound(value)
+
+
+def check_account_period(value):
+    """Raise InvalidPeriod if the value is not the number of a period of an account."""
+    if not is_between(value, 0, MOST_PERIODS - 1):
+        raise InvalidPeriod(value)

@@ -16,6 +16,11 @@ def best_step(stretch):
     return (stretch.last, stretch.gap + (stretch.last - stretch.first) * stretch.step, stretch.pair)
 
 
+def lead_graph(table):
+    """Return a dict with the best steps of each pair of states of this table."""
+    return {pair: best_steps([best_step(stretch) for stretch in table[pair]]) for pair in table}
+
+
 def lead(one, other, *, most_use=None):
     """Decide by how much one plan can lead over the other one, for all uses or for those up to a bound."""
     check_plan(one)
@@ -23,7 +28,7 @@ def lead(one, other, *, most_use=None):
     check_bound(most_use)
     start = (START, START)
     table = explored(one, other, [start], most_use)
-    graph = {pair: best_steps([best_step(row) for row in table[pair]]) for pair in table}
+    graph = lead_graph(table)
     for pair, rows in table.items():
         if rows[-1].last is None and rows[-1].step > 0:
             return ("ray", way_to(graph, start, pair), rows[-1].first)

@@ -102,3 +102,11 @@ def greatest_walk(graph, start):
         if node is not None:
             return ("loop", way_to(graph, start, node), around(choices, node))
     return ("number", -(-worths[start] // many), best_way(weights, worths, start))
+
+
+def greatest_gains(graph):
+    """Return a dict with the greatest gain of the walks from each node, if no circle gains anything."""
+    gains = {node: 0 for node in graph}
+    while improve(graph, gains, {}):
+        pass
+    return gains

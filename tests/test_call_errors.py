@@ -4,7 +4,7 @@ import inspect
 import itertools
 import unittest
 
-from everybill import backwards, billing, histories, leads, states, thrift
+from everybill import backwards, billing, certificates, histories, leads, states, thrift
 from everybill.errors import InvalidAmount, InvalidBound, InvalidRuns, InvalidState
 from everybill.errors import InvalidUse, InvalidUses, NoPlans, NotAPlan, NoUse
 from everybill.histories import bills, long_run, state_after, total
@@ -49,6 +49,9 @@ CALLS = (
     (thrift.is_thrifty, "plan", 1),
     (backwards.uses_for, "plan state amount", 3),
     (backwards.greatest_use, "plan state amount", 3),
+    (certificates.certify_lead, "one other most_use", 2),
+    (certificates.certify_alike, "one other", 2),
+    (certificates.certify_thrift, "plan most_use", 1),
 )
 # What is called in place of a function to see its errors.
 CALLED = {bills: all_bills, backwards.greatest_use: greatest_use}
@@ -303,6 +306,8 @@ class BoundTest(unittest.TestCase):
             self.assertIs(raised(InvalidBound, lead, FLEX, PLAIN, most_use=value).value, value)
             self.assertIs(raised(InvalidBound, never_ahead, FLEX, PLAIN, 0, most_use=value).value, value)
             self.assertIs(raised(InvalidBound, thrift.thrift, FLEX, most_use=value).value, value)
+            self.assertIs(raised(InvalidBound, certificates.certify_lead, FLEX, PLAIN, most_use=value).value, value)
+            self.assertIs(raised(InvalidBound, certificates.certify_thrift, FLEX, most_use=value).value, value)
         for value in (None, True, False, "5", (5,), [5], {}, FLEX):
             self.assertIs(raised(InvalidAmount, never_ahead, FLEX, PLAIN, value).value, value)
             self.assertIs(raised(InvalidAmount, never_ahead, FLEX, PLAIN, value, most_use=-1).value, value)

@@ -10,24 +10,9 @@ from everybill.plans import Plan
 from tests.makers import MONEY, WIDEST, great_plans, small_plans
 from tests.samples import FLEX, FULL, PLAIN, SAMPLES, is_integer, raised
 from tests.slow import is_plain, slow_walk
+from tests.slow_rows import slow_cheapest, slow_cost
 
 SMALL, LARGE = Plan((50,), ((0, 10),), included=2), Plan((100,), ((0, 1),), included=2)
-
-
-def slow_cost(uses, row, plans, change):
-    """Return the cost of a row, one part with the same index after the other."""
-    cost = -change if row else 0
-    at = 0
-    for index, part in itertools.groupby(row):
-        many = len(list(part))
-        cost += change + sum(bill for bill, state in slow_walk(plans[index], uses[at:at + many]))
-        at += many
-    return cost
-
-
-def slow_cheapest(uses, plans, change):
-    rows = itertools.product(range(len(plans)), repeat=len(uses))
-    return min((slow_cost(uses, row, plans, change), row) for row in rows)
 
 
 class ExamplesTest(unittest.TestCase):

@@ -27,6 +27,19 @@ INTERFACE = {
     "thrift.py": "thrift is_thrifty",
     "backwards.py": "uses_for greatest_use",
     "choosing.py": "row_cost cheapest",
+    "accounts.py": "Account LimitedAccount NotedAccount NotedLimitedAccount",
+    "checker.py": "accepts",
+    "certificates.py": "certify_lead certify_alike certify_thrift certify_cheapest",
+    "console.py": "Console",
+}
+# The methods that the interface lists for each class.
+METHODS = {
+    "Plan": "__init__ read __str__ __repr__ __eq__ __ne__",
+    "Account": "__init__ enter send change_plan do do_all tried undo rebilled",
+    "LimitedAccount": "__init__ set_limit",
+    "NotedAccount": "__init__ notes",
+    "NotedLimitedAccount": "__init__ set_limit notes",
+    "Console": "__init__ say",
 }
 
 # Each text breaks the rule in front of it.
@@ -134,6 +147,16 @@ class PackageTest(unittest.TestCase):
             found |= {node.targets[0].id for node in body if isinstance(node, ast.Assign)}
             with self.subTest(name):
                 self.assertEqual(set(wanted.split()) - found, set())
+
+    def test_the_methods_that_the_interface_lists_stand_in_their_class(self):
+        found = {}
+        for file in package_files():
+            for node in file.tree.body:
+                if isinstance(node, ast.ClassDef):
+                    found[node.name] = {part.name for part in node.body if isinstance(part, ast.FunctionDef)}
+        for name, wanted in METHODS.items():
+            with self.subTest(name):
+                self.assertEqual(set(wanted.split()) - found[name], set())
 
 
 class ChecksTest(unittest.TestCase):

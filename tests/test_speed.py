@@ -4,15 +4,20 @@ import random
 import time
 import unittest
 
+from everybill.accounts import NotedLimitedAccount
 from everybill.backwards import greatest_use, uses_for
 from everybill.billing import after, bill, lines, tail
+from everybill.certificates import certify_alike, certify_cheapest, certify_lead, certify_thrift
+from everybill.checker import accepts
 from everybill.choosing import cheapest, row_cost
+from everybill.console import Console
 from everybill.histories import bills, long_run, state_after, total
 from everybill.leads import lead, needless, never_ahead
 from everybill.plans import Plan
 from everybill.states import alike, apart, classes, states
 from everybill.thrift import is_thrifty, thrift
 from tests.makers import MONEY, WIDEST, with_parts
+from tests.slow import all_states
 
 # "About a second", with room for a slow machine; each call takes some hundredths of a second in fact.
 SECONDS = 2
@@ -100,6 +105,44 @@ class SpeedTest(unittest.TestCase):
                 self.soon(cheapest, uses, *WIDEST, change=change)
                 self.soon(cheapest, uses, *WIDEST[:1] * 4, change=change)
                 self.soon(row_cost, uses, (0, 1, 2, 3) * 6, *WIDEST, change=change)
+
+    def test_certificates(self):
+        for one, other in great_pairs():
+            told = [self.soon(certify_alike, one, other)]
+            told.append(self.soon(certify_cheapest, (0, 5, 12, 30, MONEY, GREAT_USE) * 4, one, other, one, other))
+            for most_use in (None, 3, 20, MONEY, GREAT_USE):
+                told.extend(self.soon(certify_lead, one, other, most_use=most_use))
+                told.extend(self.soon(certify_thrift, one, most_use=most_use))
+            for claim, certificate in told:
+                self.assertTrue(self.soon(accepts, claim, certificate))
+
+    def test_tables_with_all_pairs_of_states(self):
+        for plan in WIDEST:
+            form, rest = plan.form, (None, 10 ** 30)
+            # The states of pairs have the same TURN; each number is as great as what may be gained by any step.
+            pairs = [(one, other) for one in all_states(plan) for other in all_states(plan) if one[2] == other[2]]
+            self.assertEqual(len(pairs), 288)
+            for word, parts in (("never", (form, form)), ("thrifty", (form,))):
+                self.soon(accepts, (word, *parts, *rest), tuple((*pair, 0) for pair in pairs))
+            self.soon(accepts, ("alike", form, form), tuple(pairs))
+
+    def test_accounts(self):
+        for plan in WIDEST:
+            account = NotedLimitedAccount(plan, GREAT_USE * MONEY)
+            for period in range(24):
+                self.soon(account.enter, period, GREAT_USE // 3 + period)
+                self.soon(account.send)
+            self.soon(account.do_all, tuple(("enter", period, -period) for period in range(24)))
+            self.soon(account.tried, tuple(("enter", period, 1) for period in range(24)), lambda shown: shown.notes())
+            self.soon(account.rebilled, 0, 5)
+            while account.log:
+                self.soon(account.undo)
+
+    def test_consoles(self):
+        for one, other in great_pairs()[:20]:
+            console = Console(one, other)
+            for line in ("enter 0 999999999999999", "send", "lead one", "lead other", "change other", "undo"):
+                self.soon(console.say, line)
 
 
 if __name__ == "__main__":
