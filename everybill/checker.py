@@ -251,10 +251,10 @@ def behind(one, other, pairs):
 
 
 def grows(one, other, pairs, loop):
-    """Tell whether the loop adds something to what the pairs come to and leads back to the same states."""
+    """Tell whether the loop adds something (an empty one does not) and leads back to the states behind the pairs."""
     amount, states = behind(one, other, pairs)
     more, same = behind(one, other, pairs + loop)
-    return len(loop) > 0 and same == states and more > amount
+    return same == states and more > amount
 
 
 def doubled(history):

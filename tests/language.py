@@ -11,6 +11,7 @@ import re
 import sys
 
 from tests.language_loops import MORE_CHECKS, is_generator
+from tests.language_tries import TRY_CHECKS
 
 PACKAGE = "everybill"
 FOLDER = pathlib.Path(__file__).resolve().parent.parent / PACKAGE
@@ -325,7 +326,7 @@ def check_strings(file):
 
 CHECKS = (
     check_text, check_module, check_imports, check_names, check_statements, check_functions, check_classes,
-    check_errors, check_calls, check_strings, *MORE_CHECKS,
+    check_errors, check_calls, check_strings, *MORE_CHECKS, *TRY_CHECKS,
 )
 
 

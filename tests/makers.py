@@ -25,6 +25,22 @@ def small_plan(chooser, highest=8):
     )
 
 
+def narrow_plan(chooser):
+    """Return a plan with narrow tiers of uneven prices and three carried units, whose states turn one inside the other."""
+    first = chooser.randint(1, 5)
+    starts = (0, first, first + 1, first + chooser.randint(2, 4))
+    least = chooser.choice((0, chooser.randint(0, 30)))
+    return Plan(
+        tuple(chooser.randint(0, 9) for fee in range(chooser.randint(1, 2))),
+        tuple((start, chooser.choice((0, 0, 1, 5, 12))) for start in starts),
+        included=chooser.randint(1, 6),
+        carry=3,
+        least=least,
+        most=chooser.choice((None, None, chooser.randint(least, 40))),
+        streak=chooser.choice((None, (chooser.randint(1, 12), chooser.randint(1, 2), chooser.randint(0, 20)))),
+    )
+
+
 def great_amount(chooser):
     return chooser.choice((0, 1, 2, MONEY, MONEY - 1, MONEY // 2, chooser.randint(0, MONEY)))
 
@@ -68,6 +84,11 @@ def near_plan(chooser, plan, other):
 def small_plans(seed, many):
     chooser = random.Random(seed)
     return [small_plan(chooser) for plan in range(many)]
+
+
+def narrow_plans(seed, many):
+    chooser = random.Random(seed)
+    return [narrow_plan(chooser) for plan in range(many)]
 
 
 def great_plans(seed, many):

@@ -1,5 +1,6 @@
 """Accounts, beside a slow one that reckons all anew (point 16)."""
 
+import inspect
 import random
 import unittest
 
@@ -653,6 +654,23 @@ class NotesTest(AccountCase):
 
 
 class MadeTest(unittest.TestCase):
+    def test_names_of_the_parameters(self):
+        methods = {
+            "enter": "period units", "send": "", "change_plan": "plan", "do": "deed", "do_all": "deeds",
+            "tried": "deeds look", "undo": "", "rebilled": "period units",
+        }
+        limits, notes = {"set_limit": "limit"}, {"notes": ""}
+        for made, names, wanted in (
+            (Account, "plan", methods), (NotedAccount, "plan", {**methods, **notes}),
+            (LimitedAccount, "plan limit", {**methods, **limits}),
+            (NotedLimitedAccount, "plan limit", {**methods, **limits, **notes}),
+        ):
+            self.assertEqual(list(inspect.signature(made).parameters), names.split())
+            for name, parts in wanted.items():
+                found = inspect.signature(getattr(made, name)).parameters
+                self.assertEqual(list(found), ["self", *parts.split()])
+                self.assertEqual({part.kind for part in found.values()}, {inspect.Parameter.POSITIONAL_OR_KEYWORD})
+
     def test_the_first_plan(self):
         for value in SAMPLES:
             if type(value) is not Plan:

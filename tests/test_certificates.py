@@ -11,8 +11,8 @@ from everybill.leads import lead
 from everybill.plans import Plan
 from everybill.states import apart
 from everybill.thrift import thrift
-from tests.makers import MONEY, WIDEST, great_plan, great_plans, pairs_of, small_plan, small_plans, told_otherwise
-from tests.makers import with_parts
+from tests.makers import MONEY, WIDEST, great_plan, great_plans, narrow_plan, narrow_plans, pairs_of, small_plan
+from tests.makers import small_plans, told_otherwise, with_parts
 from tests.samples import FLEX, FULL, PLAIN, SAMPLES, is_integer, raised
 from tests.slow import is_plain, slow_bill, slow_lead, slow_loss
 from tests.slow_checker import slow_accepts
@@ -30,7 +30,8 @@ class CertificatesCase(unittest.TestCase):
         self.assertEqual((type(pair), len(pair)), (tuple, 2))
 
     def all_pairs(self):
-        return [*pairs_of(111, 150, small_plan), *pairs_of(112, 60, great_plan), *told_otherwise()]
+        pairs = [*pairs_of(111, 150, small_plan), *pairs_of(109, 60, narrow_plan), *pairs_of(112, 60, great_plan)]
+        return [*pairs, *told_otherwise()]
 
 
 class ExamplesTest(unittest.TestCase):
@@ -110,7 +111,7 @@ class AlikeTest(CertificatesCase):
 class ThriftTest(CertificatesCase):
     def test_what_thrift_tells(self):
         words = {}
-        for at, plan in enumerate([*small_plans(114, 150), *great_plans(115, 60), *WIDEST]):
+        for at, plan in enumerate([*small_plans(114, 150), *narrow_plans(110, 150), *great_plans(115, 60), *WIDEST]):
             most_use = BOUNDS[at % len(BOUNDS)]
             found, told = thrift(plan, most_use=most_use), certify_thrift(plan, most_use=most_use)
             self.assertIs(type(told), tuple)

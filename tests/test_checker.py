@@ -11,10 +11,11 @@ from everybill.checker import accepts
 from everybill.leads import lead
 from everybill.pairs import explored
 from everybill.plans import Plan
-from tests.makers import MONEY, WIDEST, great_plan, pairs_of, small_plan, told_otherwise, with_parts
+from tests.makers import MONEY, WIDEST, great_plan, narrow_plan, narrow_plans, pairs_of, small_plan, small_plans
+from tests.makers import told_otherwise, with_parts
 from tests.samples import FLEX, FULL, PLAIN, SAMPLES
-from tests.slow import all_states, slow_lead, slow_loss, slow_state
-from tests.slow_checker import slow_accepts
+from tests.slow import all_states, slow_after, slow_bill, slow_lead, slow_loss, slow_state
+from tests.slow_checker import deciding_uses, slow_accepts
 
 START = (0, 0, 0)
 HALF = MONEY // 2
@@ -86,6 +87,28 @@ def whole_table(one, other, amount):
     return None
 
 
+def whole_losses(plan, amount):
+    """Return a table for "thrifty" with all pairs of states with the same TURN, the greatest one, or None if too low."""
+    uses = sorted(deciding_uses(plan.form))
+    rows = {state: [(slow_bill(plan, state, use), slow_after(plan, state, use)) for use in uses] for state in all_states(plan)}
+    numbers = {(state, beside): amount for state in rows for beside in rows if state[2] == beside[2]}
+    steps = {}
+    for state, beside in numbers:
+        dearest, found = {}, {}
+        for (bill, behind), (more, behind_too) in zip(rows[state], rows[beside]):
+            dearest[behind] = max(bill, dearest.get(behind, bill))
+            for behind, bill in dearest.items():
+                found[behind, behind_too] = max(bill - more, found.get((behind, behind_too), bill - more))
+        steps[state, beside] = found
+    for length in range(len(numbers)):
+        before = dict(numbers)
+        for pair, found in steps.items():
+            numbers[pair] = min([numbers[pair], *[numbers[behind] - loss for behind, loss in found.items()]])
+        if numbers == before:
+            return tuple(sorted((*pair, number) for pair, number in numbers.items()))
+    return None
+
+
 class CheckerCase(unittest.TestCase):
     def compare(self, claim, certificate):
         found = accepts(claim, certificate)
@@ -146,6 +169,9 @@ class NearTest(CheckerCase):
 
     def test_near_claims_of_great_plans(self):
         self.check_near(pairs_of(93, 20, great_plan), 94, 25)
+
+    def test_near_claims_of_plans_with_narrow_tiers(self):
+        self.check_near(pairs_of(96, 20, narrow_plan), 97, 25)
 
     def test_each_number_of_a_table(self):
         seen = set()
@@ -246,6 +272,17 @@ class RayTest(CheckerCase):
         capped = Plan((0,), ((0, 2),), most=MONEY + 1 - 1)
         self.rejected(("ray", capped.form, Plan((0,), ((0, 1),)).form, (), 0))
 
+    def test_only_the_unit_that_leads_to_a_turn_adds_too_little(self):
+        # From 4 to 5 the first plan adds 1 and the other one, which leaves its least bill, adds 4.
+        one, other = Plan((0,), ((0, 1), (5, 10))), Plan((0,), ((0, 5),), least=21)
+        for far in range(9):
+            self.assertEqual(self.compare(("ray", one.form, other.form, (), far), None), far > 4)
+        # The same where the other plan leaves the uses that cost nothing by OFF.
+        other = Plan((0,), ((0, 5),), streak=(1, 1, 21))
+        self.rejected(("ray", one.form, other.form, (1,), 4))
+        self.rejected(("ray", one.form, other.form, (1,), 0))
+        self.accepted(("ray", one.form, other.form, (1,), 5))
+
     def test_each_use_near_the_turns(self):
         plans = [Plan((3,), ((0, 1), (4, 5), (9, 2)), included=2, carry=2, least=9, streak=(6, 1, 4)), FLEX, FULL, PLAIN]
         plans.append(Plan((0,), ((0, 0), (7, 3)), included=1, least=4, most=40))
@@ -296,6 +333,24 @@ class NeverTest(CheckerCase):
                 raised = replaced(rows, (lowest, 2), found[1])
                 self.compare(("never", one.form, other.form, None, found[1]), raised)
         self.assertGreater(extra, 10)
+
+    def test_states_of_other_plans(self):
+        plan = Plan((0, 0), ((0, 0),), carry=2, streak=(1, 1, 5))
+        bare = Plan((0,), ((0, 0),))
+        inside = [(carried, busy, turn) for carried in range(3) for busy in range(2) for turn in range(2)]
+        whole = tuple((state, START, 0) for state in sorted(inside))
+        self.accepted(("never", plan.form, bare.form, None, 0), whole)
+        self.accepted(("never", bare.form, plan.form, None, 0), tuple((START, state, 0) for state, beside, number in whole))
+        states = ((-1, 0, 0), (3, 0, 0), (0, -1, 0), (0, 2, 0), (0, 0, -1), (0, 0, 2), (10 ** 40 - 1, 0, 0), (0, 0, 10 ** 9))
+        for state in states:
+            self.rejected(("never", plan.form, bare.form, None, 0), tuple(sorted((*whole, (state, START, 0)))))
+            rows = tuple((START, held, 0) for held in sorted((*inside, state)))
+            self.rejected(("never", bare.form, plan.form, None, 0), rows)
+        for state in ((1, 0, 0), (0, 1, 0), (0, 0, 1), (-1, 0, 0), (0, -1, 0), (0, 0, -1)):
+            rows = sorted([START, state])
+            self.rejected(("never", bare.form, bare.form, None, 0), tuple((held, START, 0) for held in rows))
+            self.rejected(("alike", bare.form, bare.form), tuple((START, held) for held in rows))
+            self.rejected(("thrifty", bare.form, None, 0), tuple((held, START, 0) for held in rows))
 
     def test_rows_of_other_forms(self):
         claim = ("never", EVEN, UNEVEN, None, 20)
@@ -382,6 +437,21 @@ class ThriftyTest(CheckerCase):
         self.accepted(("thrifty", plan.form, 4, 0), ((START, START, 0),))
         self.rejected(("thrifty", plan.form, 5, 0), ((START, START, 0),))
 
+    def test_tables_with_pairs_that_no_thrift_history_reaches(self):
+        seen = {False: 0, True: 0}
+        for plan in [*narrow_plans(107, 12), *small_plans(108, 14), FLEX, PLAIN]:
+            for amount in (0, 200):
+                table = whole_losses(plan, amount)
+                if table is None:
+                    continue
+                claim = ("thrifty", plan.form, None, amount)
+                seen[self.compare(claim, table)] += 1
+                # These are the greatest numbers, so none of them may be greater by itself, but all of them together.
+                seen[self.compare((*claim[:3], amount + 1), tuple((*row[:2], row[2] + 1) for row in table))] += 1
+                for at in range(0, len(table), 7):
+                    seen[self.compare((*claim[:3], amount + 1), replaced(table, (at, 2), table[at][2] + 1))] += 1
+        self.assertGreater(min(seen.values()), 10)
+
     def test_a_greater_less_need_not_fit(self):
         # LESS above MORE would lose, which no thrift history has.
         self.accepted(("thrifty", PLAIN.form, None, 0), ((START, START, 0),))
@@ -415,6 +485,9 @@ class CheapestTest(CheckerCase):
     def test_no_period(self):
         for forms in ((PLAIN.form,), (FLEX.form, PLAIN.form, FULL.form, FLEX.form)):
             self.accepted(("cheapest", forms, (), 5, ()), ())
+            self.rejected(("cheapest", (), (), 5, ()), ())
+            self.accepted(("cheapest", forms[:1] * 4, (), 5, ()), ())
+            self.rejected(("cheapest", forms[:1] * 5, (), 5, ()), ())
             for row, table in (((0,), ()), ((), ((),)), ((), None), ((), []), ([], ()), ((), ((0,),))):
                 self.rejected(("cheapest", forms, (), 5, row), table)
 
@@ -491,6 +564,11 @@ class KindsTest(CheckerCase):
                     self.rejected(*replaced(both, path, bool(value)))
                 if type(value) is tuple:
                     self.rejected(*replaced(both, path, list(value)))
+
+    def test_by_name(self):
+        for claim, certificate in self.told():
+            self.assertIs(accepts(certificate=certificate, claim=claim), True)
+        self.assertRaises(TypeError, accepts)
 
     def test_other_claims_and_certificates(self):
         for claim in (*SAMPLES, ("lead", EVEN, UNEVEN), ("never",), ((),), (None,), ("",), ("AHEAD", EVEN, UNEVEN, (0,), 20)):

@@ -108,6 +108,14 @@ BREAKS = (
     ("L5", "def one(a):\n    yield a\n\n\ndef two(a):\n    return sum(one(a))\n"),
     ("L25", "def one(a):\n    a.sort()\n"),
     ("L7", "ONE = [a for a in (1, 2)]\n"),
+    ("L6", "def one(a):\n    try:\n        a()\n    finally:\n        a()\n"),
+    ("L6", "def one(a):\n    try:\n        a()\n    finally:\n        a.b = a[0]\n"),
+    ("L6", "def one(a):\n    try:\n        b = a()\n    finally:\n        a.b = b\n"),
+    ("L6", "def one(a):\n    b = a.b\n    try:\n        a()\n    finally:\n        a.b, a.c = b\n"),
+    ("L6", "def one(a):\n    try:\n        a()\n    finally:\n        if a.b:\n            a.b = None\n"),
+    ("L5", "class One:\n    def a(self):\n        return super().b\n"),
+    ("L5", "class One:\n    def a(self):\n        return [super().a() for b in self.b]\n"),
+    ("L5", "class One:\n    def a(self):\n        return super(One, self).a()\n"),
 )
 # None of these breaks a rule.
 KEPT = (
@@ -116,6 +124,8 @@ KEPT = (
     "def one(a):\n    b = set()\n    for c in a:\n        if c not in b:\n            b.add(c)\n    return sorted(b)\n",
     "def one(a):\n    return sorted(set(a)), len({b for b in a})\n",
     "def one(a):\n    for b in list(a):\n        a.append(b)\n",
+    "def one(a):\n    b, c = a.b, a.c\n    try:\n        a()\n    finally:\n        a.b, a.c = b, c\n        a.d = None\n",
+    "class One:\n    def one(self):\n        return super().one()\n",
 )
 
 

@@ -6,7 +6,7 @@ import unittest
 from everybill.plans import Plan
 from everybill.thrift import is_thrifty, loss_graph, thrift
 from everybill.walks import greatest_walk
-from tests.makers import FAR_ENOUGH, MONEY, WIDEST, great_plans, small_plans, with_parts
+from tests.makers import FAR_ENOUGH, MONEY, WIDEST, great_plans, narrow_plans, small_plans, with_parts
 from tests.samples import FLEX, FULL, PLAIN
 from tests.slow import Thrifts, is_plain, slow_loss, slow_state, turning_uses
 
@@ -69,7 +69,8 @@ class ExamplesTest(unittest.TestCase):
 
 class SearchTest(ThriftCase):
     def test_beside_a_search_with_all_uses(self):
-        words = [self.check_thrift(plan, range(FAR_ENOUGH + 1)) for plan in small_plans(51, 250)]
+        plans = [*small_plans(51, 250), *narrow_plans(58, 60)]
+        words = [self.check_thrift(plan, range(FAR_ENOUGH + 1)) for plan in plans]
         self.assertGreater(min(words.count(word) for word in ("loop", "number")), 50)
 
     def test_beside_a_search_with_all_uses_up_to_a_bound(self):
@@ -100,13 +101,16 @@ class SearchTest(ThriftCase):
     def test_the_greatest_losses_from_all_pairs_of_states(self):
         # At the starts no loss was ever seen between 0 and a loop, elsewhere there are many.
         lengths = set()
-        for at, plan in enumerate(small_plans(55, 150)):
+        for at, plan in enumerate([*small_plans(55, 150), *narrow_plans(59, 90)]):
             most_use = (None, 5, 20)[at % 3]
             uses = [use for use in range(FAR_ENOUGH + 1) if most_use is None or use <= most_use]
             search, graph = Thrifts(plan, uses), loss_graph(plan, most_use)
-            self.assertEqual(sorted(graph), search.reached(((0, 0, 0), (0, 0, 0))))
+            self.assertEqual(
+                {pair: sorted(steps) for pair, steps in graph.items()},
+                {pair: sorted(steps) for pair, steps in search.steps.items()},
+            )
             if thrift(plan, most_use=most_use)[0] == "number":
-                for pair in list(graph)[:9]:
+                for pair in [*list(graph)[:6], *list(graph)[6::9]]:
                     found = greatest_walk(graph, pair)
                     self.assertEqual(found, search.lead(pair), (plan.form, most_use, pair))
                     lengths.add(len(found[2]))
