@@ -389,7 +389,8 @@ def accepts(claim, certificate):
     forms, parts = FORMS[claim[0]], claim[1:]
     if len(forms) != len(parts) or certificate is not None and claim[0] not in WITH_TABLES:
         return False
-    for has_form, part in zip(forms, parts):
+    for at, part in enumerate(parts):
+        has_form = forms[at]
         if not has_form(part):
             return False
     check = CHECKS[claim[0]]
